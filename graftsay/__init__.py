@@ -1,0 +1,1 @@
+"""Graftsay: rows of signs read by trees that are put into trees."""

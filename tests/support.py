@@ -1,0 +1,379 @@
+"""What several tests need: trees, books, ways to spoil things, and answers found by other ways than the package's.
+
+Nothing here imports the package: what it tells is held against what the package tells.
+"""
+
+import itertools
+import re
+
+NAME = re.compile(r"[A-Z][A-Z0-9]{0,23}")
+SIGN = re.compile(r"[a-z]{1,6}")
+KEY = re.compile(r"[a-z][a-z0-9]{0,23}")
+PLACE = re.compile(r"\.|[0-7](\.[0-7])*")
+
+# Each line end and tab, and each sign from the blank to ~.
+ALL_SIGNS = "\n\t" + "".join(chr(code) for code in range(32, 127))
+GREAT = "ABCDEFGHIJKLMNOPQRSTUVWXYZ"
+SMALL = "abcdefghijklmnopqrstuvwxyz"
+FIGURES = "0123456789"
+
+
+def knot(name, *kids, takes=None):
+    return ("knot", name, takes, kids)
+
+
+def sign(text):
+    return ("sign", text)
+
+
+A, B, C = sign("a"), sign("b"), sign("c")
+VOID = ("void",)
+
+# Texts and the trees that they write, held against each other by hand.
+WRITTEN_TREES = [
+    ("a", ("sign", "a")),
+    ("abcdef", ("sign", "abcdef")),
+    ("void", ("sign", "void")),
+    ("-", ("void",)),
+    ("+N", ("hole", "N")),
+    ("*M1", ("foot", "M1")),
+    ("[ S a ]", ("knot", "S", None, (("sign", "a"),))),
+    ("[ S ?M a ]", ("knot", "S", ("M", False), (("sign", "a"),))),
+    ("[ S !M a ]", ("knot", "S", ("M", True), (("sign", "a"),))),
+    ("[ S a [ X !M +N *M ] - ]",
+     ("knot", "S", None, (
+         ("sign", "a"), ("knot", "X", ("M", True), (("hole", "N"), ("foot", "M"))), ("void",)))),
+    ("[ TOP top void knot sign hole foot ]",
+     ("knot", "TOP", None, (
+         ("sign", "top"), ("sign", "void"), ("sign", "knot"), ("sign", "sign"), ("sign", "hole"), ("sign", "foot")))),
+    ("[ E8 a b c d e f g h ]",
+     ("knot", "E8", None, tuple(("sign", letter) for letter in "abcdefgh"))),
+    ("[ A ?A [ B ?B [ C !C x ] *D ] [ E - ] ]",
+     ("knot", "A", ("A", False), (
+         ("knot", "B", ("B", False), (("knot", "C", ("C", True), (("sign", "x"),)), ("foot", "D"))),
+         ("knot", "E", None, (("void",),))))),
+    ("[ S [ T - - - - - - - - ] [ U +A +B +C +D +E +F +G +H ] * ]".replace(" * ", " *Z "),
+     ("knot", "S", None, (
+         ("knot", "T", None, (("void",),) * 8),
+         ("knot", "U", None, tuple(("hole", letter) for letter in "ABCDEFGH")),
+         ("foot", "Z")))),
+]
+TREES = [tree for text, tree in WRITTEN_TREES]
+
+# Words of each kind that a written tree has, and words that are none.
+TREE_WORDS = ["a", "top", "-", "+N", "*M", "[", "]", "?M", "!M", "S"]
+NO_TREE_WORDS = [
+    "", "a\n", "a\t", "]\n", "\t]", "S\n", "+N\n", "*M\t", "?M\n", "!M\t", "-\n", "[\t", "abcdefg", "a1", "aB", "Sa",
+    "1S", "+", "*", "?", "!", "+n", "*m", "?m", "!m", "+1", "++N", "+" + "N" * 25, "?" + "M" * 25, "N" * 25, "--",
+    "[[", "]]", "[S", "a]", "(", ")", ".", ":", "0", "~", "_", "?", "a-b", "None",
+]
+
+
+def walked(tree, place=()):
+    """The places and pieces of a tree, in order."""
+    yield place, tree
+    if tree[0] == "knot":
+        for number, kid in enumerate(tree[3]):
+            yield from walked(kid, place + (number,))
+
+
+def pieces(tree):
+    return [piece for place, piece in walked(tree)]
+
+
+def is_leaf_word(word):
+    return word == "-" or bool(SIGN.fullmatch(word) or (word[:1] in ("+", "*") and NAME.fullmatch(word[1:])))
+
+
+def tree_end(words):
+    """("end", the number of the word behind the tree that words begin with), or ("fault", what NoText has to tell).
+
+    It goes word by word and keeps for each knot not yet closed how many kids it has, None ahead of its name.
+    """
+    counts = []
+    behind_name = False
+    for at, word in enumerate(words):
+        was_behind_name, behind_name = behind_name, False
+        if counts and counts[-1] is None:
+            if not NAME.fullmatch(word):
+                return "fault", at
+            counts[-1] = 0
+            behind_name = True
+            continue
+        if was_behind_name and word[:1] in ("?", "!") and NAME.fullmatch(word[1:]):
+            continue
+        if counts and counts[-1] and word == "]":
+            counts.pop()
+        elif counts and counts[-1] == 8:
+            return "fault", at
+        elif word == "[":
+            counts.append(None)
+            continue
+        elif not is_leaf_word(word):
+            return "fault", at
+        if not counts:
+            return "end", at + 1
+        counts[-1] += 1
+    return "fault", len(words)
+
+
+def plan_end(words):
+    """As tree_end, of plans: what may stand at each word hangs on the word ahead and on how many brackets are open."""
+    depth = 0
+    due = "plan"
+    for at, word in enumerate(words):
+        if due == "plan" and word == "(":
+            depth, due = depth + 1, "key"
+        elif due == "key" and KEY.fullmatch(word):
+            due = "more"
+        elif due == "more" and word == ")":
+            depth -= 1
+            if depth == 0:
+                return "end", at + 1
+        elif due == "more" and PLACE.fullmatch(word):
+            due = "plan"
+        else:
+            return "fault", at
+    return "fault", len(words)
+
+
+def whole_end(end, words):
+    """The number that NoText has to tell of a text's words, None where they write something; end is one of the above."""
+    told, at = end(words)
+    if told == "end" and at == len(words):
+        return None
+    return at
+
+
+def edits(words, others):
+    """Lists of words near to one: with one left out, doubled, moved, put in, exchanged, and cut off behind any."""
+    for at in range(len(words)):
+        yield words[:at] + words[at + 1:]
+        yield words[:at] + [words[at]] + words[at:]
+        yield words[:at]
+        for other in others + [words[at] + "\n", words[at] + "\t", "\n" + words[at]]:
+            yield words[:at] + [other] + words[at:]
+            yield words[:at] + [other] + words[at + 1:]
+        for other in range(at):
+            swapped = list(words)
+            swapped[at], swapped[other] = swapped[other], swapped[at]
+            yield swapped
+    for other in others:
+        yield words + [other]
+
+
+ODD_THINGS = [None, True, False, 0, 1, -1, 10 ** 59, "", "a", "A", "x\n", (), [], ((),), [[]], ("sign",), (None,), (0,)]
+
+
+def spoiled(thing, odd=ODD_THINGS):
+    """Things near to one that is made of tuples: with a part exchanged, left out, doubled, turned about, a list."""
+    yield from odd
+    if not isinstance(thing, tuple):
+        return
+    yield list(thing)
+    for at, part in enumerate(thing):
+        yield thing[:at] + thing[at + 1:]
+        yield thing[:at] + (part,) + thing[at:]
+        for other in range(at):
+            turned = list(thing)
+            turned[at], turned[other] = turned[other], turned[at]
+            yield tuple(turned)
+        for other in spoiled(part, odd):
+            yield thing[:at] + (other,) + thing[at + 1:]
+    yield thing + (None,)
+    yield (thing,)
+
+
+def looks_name(thing):
+    return isinstance(thing, str) and NAME.fullmatch(thing) is not None
+
+
+def looks_tree(thing):
+    """Whether a thing is a tree."""
+    if not isinstance(thing, tuple) or not thing or not isinstance(thing[0], str):
+        return False
+    kind, *parts = thing
+    if kind == "knot" and len(parts) == 3:
+        name, takes, kids = parts
+        taking = takes is None or (
+            isinstance(takes, tuple) and len(takes) == 2 and looks_name(takes[0]) and takes[1] in (True, False)
+            and isinstance(takes[1], bool))
+        many = isinstance(kids, tuple) and len(kids) in range(1, 9)
+        return looks_name(name) and taking and many and all(looks_tree(kid) for kid in kids)
+    if kind in ("hole", "foot"):
+        return len(parts) == 1 and looks_name(parts[0])
+    if kind == "sign":
+        return len(parts) == 1 and isinstance(parts[0], str) and SIGN.fullmatch(parts[0]) is not None
+    return kind == "void" and not parts
+
+
+def tree_fault(tree):
+    """The word of NoTree, None for a start or a graft."""
+    kinds = [piece[0] for piece in pieces(tree)]
+    if kinds[0] != "knot":
+        return "knot"
+    if kinds.count("foot") > 1:
+        return "feet"
+    if "sign" not in kinds:
+        return "sign"
+    if len(kinds) > 60 or max(len(place) for place, piece in walked(tree)) > 11:
+        return "great"
+    return None
+
+
+def book_fault(trees):
+    """The name of the refusal of a list of keys and trees, and its fields; None where they make a book."""
+    if not trees or len(trees) > 400:
+        return ("NoKey", 400 if trees else 0)
+    for number, (key, tree) in enumerate(trees):
+        if not KEY.fullmatch(key):
+            return ("NoKey", number)
+        if key in [earlier for earlier, other in trees[:number]]:
+            return ("Twice", key)
+        if tree_fault(tree):
+            return ("NoTree", key, tree_fault(tree))
+    return None
+
+
+# The fields of the refusals that are told of books.
+FIELDS = {"NoRow": ["row"], "NoKey": ["number"], "Twice": ["key"], "NoTree": ["key", "word"]}
+
+
+def fault_told(error):
+    """An error as book_fault tells it."""
+    name = type(error).__name__
+    return (name,) + tuple(getattr(error, field) for field in FIELDS.get(name, []))
+
+
+def looks_book(thing):
+    """Whether a thing is a book."""
+    if not isinstance(thing, tuple) or len(thing) != 2 or not looks_name(thing[0]) or not isinstance(thing[1], tuple):
+        return False
+    for row in thing[1]:
+        if not isinstance(row, tuple) or len(row) != 2 or not isinstance(row[0], str) or not looks_tree(row[1]):
+            return False
+    return book_fault(list(thing[1])) is None
+
+
+def plain_tree(many):
+    """A start of that many pieces, 57 or more."""
+    eights = [knot("X", *[A] * 7) for count in range(7)]
+    rest = many - 57
+    return knot("S", *eights, *([knot("X", *[A] * (rest - 1))] if rest > 1 else [A] * rest))
+
+
+def deep_tree(numbers, leaf=A):
+    """A chain of knots; the leaf's place has that many numbers."""
+    tree = leaf
+    for count in range(numbers):
+        tree = knot("S", tree)
+    return tree
+
+
+# A book whose plans end, so that all of them can be told, with what is put at wholes, holes, above and beneath feet.
+BOUNDED_ROWS = [
+    "top S",
+    "s : [ S ?M a [ X !M +N b ] - ]",
+    "t : [ S +N c ]",
+    "u : [ T +N c ]",
+    "n : [ N c ]",
+    "o : [ N ?K d [ Y ?K e ] ]",
+    "m : [ M f *M ]",
+    "l : [ L ?K g [ Z *M ] a ]",
+    "r : [ R [ Q !K b *M ] +P ]",
+    "top : [ K h *K - ]",
+    "k2 : [ S +P *K i ]",
+    "p : [ P j ]",
+]
+BOUNDED = ("S", (
+    ("s", knot("S", A, knot("X", ("hole", "N"), B, takes=("M", True)), VOID, takes=("M", False))),
+    ("t", knot("S", ("hole", "N"), C)),
+    ("u", knot("T", ("hole", "N"), C)),
+    ("n", knot("N", C)),
+    ("o", knot("N", sign("d"), knot("Y", sign("e"), takes=("K", False)), takes=("K", False))),
+    ("m", knot("M", sign("f"), ("foot", "M"))),
+    ("l", knot("L", sign("g"), knot("Z", ("foot", "M")), A, takes=("K", False))),
+    ("r", knot("R", knot("Q", B, ("foot", "M"), takes=("K", True)), ("hole", "P"))),
+    ("top", knot("K", sign("h"), ("foot", "K"), VOID)),
+    ("k2", knot("S", ("hole", "P"), ("foot", "K"), sign("i"))),
+    ("p", knot("P", sign("j"))),
+))
+
+# A book whose plans don't end: as many a, b, c and d.
+ENDLESS = ("S", (
+    ("s", knot("S", A, knot("X", B, takes=("M", False)), C)),
+    ("g", knot("X", A, knot("Y", B, ("foot", "M"), C, takes=("M", False)), sign("d"))),
+    ("h", knot("X", ("hole", "S"), ("foot", "M"), sign("e"), takes=("M", False))),
+))
+
+
+def put_keys(book, piece):
+    """The keys of the trees that can be put at a piece."""
+    kind, name = "none", None
+    if piece[0] == "hole":
+        kind, name = "start", piece[1]
+    elif piece[0] == "knot" and piece[2]:
+        kind, name = "graft", piece[2][0]
+    told = []
+    for key, tree in book[1]:
+        feet = [part[1] for part in pieces(tree) if part[0] == "foot"]
+        if (kind, name) == (("graft", feet[0]) if feet else ("start", tree[1])):
+            told.append(key)
+    return told
+
+
+def plans_with(book, key, depth):
+    """All plans of a book with that key as their own, of at most so many within one another."""
+    if depth == 0:
+        return []
+    choices = []
+    for place, piece in walked(dict(book[1])[key]):
+        puts = [
+            ((place, plan),)
+            for other in put_keys(book, piece)
+            for plan in plans_with(book, other, depth - 1)
+        ]
+        if piece[0] == "knot" and not (piece[2] and piece[2][1]) or piece[0] in ("sign", "void", "foot"):
+            puts.append(())
+        choices.append(puts)
+    return [(key, sum(choice, ())) for choice in itertools.product(*choices)]
+
+
+def all_plans(book, depth=9):
+    return [plan for key, tree in book[1] for plan in plans_with(book, key, depth)]
+
+
+BOUNDED_PLANS = all_plans(BOUNDED)
+ENDLESS_PLANS = all_plans(ENDLESS, 3)
+
+
+def keys_in(plan):
+    """All keys of a plan, each as often as it stands."""
+    return [plan[0]] + [key for place, put in plan[1] for key in keys_in(put)]
+
+
+def grown(book, plan):
+    """What a plan builds, found from the whole inwards."""
+    puts = dict(plan[1])
+
+    def build(place, piece):
+        if piece[0] == "hole":
+            return grown(book, puts[place])
+        if piece[0] != "knot":
+            return piece
+        kids = tuple(build(place + (number,), kid) for number, kid in enumerate(piece[3]))
+        bare = ("knot", piece[1], None, kids)
+        if place not in puts:
+            return bare
+        return footed(grown(book, puts[place]), bare)
+
+    return build((), dict(book[1])[plan[0]])
+
+
+def footed(tree, other):
+    """A tree with another one in the place of its foot."""
+    if tree[0] == "foot":
+        return other
+    if tree[0] == "knot":
+        return tree[:3] + (tuple(footed(kid, other) for kid in tree[3]),)
+    return tree
