@@ -4,6 +4,7 @@ Nothing here imports the package: what it tells is held against what the package
 """
 
 import itertools
+import random
 import re
 
 NAME = re.compile(r"[A-Z][A-Z0-9]{0,23}")
@@ -377,3 +378,271 @@ def footed(tree, other):
     if tree[0] == "knot":
         return tree[:3] + (tuple(footed(kid, other) for kid in tree[3]),)
     return tree
+
+
+def has_foot(piece):
+    return any(part[0] == "foot" for part in pieces(piece))
+
+
+def looks_number(thing):
+    return type(thing) is int
+
+
+def looks_entry(book, row, thing):
+    """Whether a thing is an entry of a book and a row, whether it comes or not."""
+    if type(thing) is not tuple or len(thing) != 4:
+        return False
+    key, place, done, ends = thing
+    if type(key) is not str or type(place) is not tuple or type(done) is not bool or type(ends) is not tuple:
+        return False
+    if len(ends) != 4 or not all(looks_number(number) for number in place + ends):
+        return False
+    found = [dict(walked(tree)).get(place) for other, tree in book[1] if other == key]
+    if found in ([], [None]) or (found[0][0] != "knot" and not done):
+        return False
+    footed = has_foot(found[0])
+    bounds = [0, *(ends if footed else ends[::3]), len(row)]
+    return bounds == sorted(bounds) and (footed or ends[1:3] == (-1, -1))
+
+
+def chains(lists):
+    """All tuples of one ends of each list, each one's end the next one's beginning."""
+    if len(lists) == 1:
+        return [(ends,) for ends in lists[0]]
+    return [chain + (ends,) for chain in chains(lists[:-1]) for ends in lists[-1] if chain[-1][3] == ends[0]]
+
+
+def instances(book, row, listed):
+    """All cases of the rules of point 14 whose premises are among the entries listed.
+
+    Each is a tuple of what comes, the list of its premises, and the key of the tree where its whole comes not done.
+    """
+    by_spot = {}
+    for entry in listed:
+        by_spot.setdefault(entry[:3], []).append(entry[3])
+    for key, tree in book[1]:
+        for place, piece in walked(tree):
+            for ends, premises, done in piece_instances(book, row, by_spot, key, place, piece):
+                yield (key, place, done, ends), premises, key if place == () and not done else None
+
+
+def piece_instances(book, row, by_spot, key, place, piece):
+    bounds = range(len(row) + 1)
+    if piece[0] == "sign":
+        yield from [((at, -1, -1, at + 1), [], True) for at in bounds[:-1] if row[at] == piece[1]]
+    if piece[0] == "void":
+        yield from [((at, -1, -1, at), [], True) for at in bounds]
+    if piece[0] == "foot":
+        yield from [((j, j, k, k), [], True) for j in bounds for k in bounds if j <= k]
+    if piece[0] == "hole":
+        for other in put_keys(book, piece):
+            for ends in by_spot.get((other, (), True), []):
+                yield ends, [(other, (), True, ends)], True
+    if piece[0] != "knot":
+        return
+    kids = [(key, place + (number,), True) for number in range(len(piece[3]))]
+    for chain in chains([by_spot.get(kid, []) for kid in kids]):
+        feet = [ends[1:3] for kid, ends in zip(piece[3], chain) if has_foot(kid)] + [(-1, -1)]
+        yield (chain[0][0],) + feet[0] + (chain[-1][3],), [kid + (ends,) for kid, ends in zip(kids, chain)], False
+    bare = (key, place, False)
+    for ends in by_spot.get(bare, []):
+        if not (piece[2] and piece[2][1]):
+            yield ends, [bare + (ends,)], True
+        for other in put_keys(book, piece):
+            for i, j, k, l in by_spot.get((other, (), True), []):
+                if (j, k) == (ends[0], ends[3]):
+                    yield (i, ends[1], ends[2], l), [(other, (), True, (i, j, k, l)), bare + (ends,)], True
+
+
+def closed_list(book, row, listed):
+    """Entries and all that comes of them by the rules, one after another till nothing more comes; sorted."""
+    while True:
+        more = listed | {entry for entry, premises, key in instances(book, row, listed)}
+        if more == listed:
+            return sorted(listed)
+        listed = more
+
+
+def ruled(book, row):
+    """All entries of a book and a row."""
+    return closed_list(book, row, set())
+
+
+def goals_of(book, row):
+    """The goals of a book and a row, whether they come or not."""
+    return [(key, (), True, (0, -1, -1, len(row))) for key in put_keys(book, ("hole", book[0]))]
+
+
+def shows(book, row, thing):
+    """Whether a thing is a list of entries that shows that there is no plan."""
+    if type(thing) is not list or not all(looks_entry(book, row, entry) for entry in thing):
+        return False
+    held = set(thing)
+    if len(held) != len(thing) or any(goal in held for goal in goals_of(book, row)):
+        return False
+    return all(entry in held for entry, premises, key in instances(book, row, held))
+
+
+def bears_out(book, prices, row, price, thing, dear):
+    """Whether a thing is worths that bear a price out."""
+    if type(thing) is not list or not all(type(worth) is tuple and len(worth) == 2 for worth in thing):
+        return False
+    if not all(looks_entry(book, row, entry) and looks_number(number) for entry, number in thing):
+        return False
+    held = dict(thing)
+    goals = [goal for goal in goals_of(book, row) if goal in held]
+    way = -1 if dear else 1
+    if len(held) != len(thing) or not goals or any(held[goal] * way < price * way for goal in goals):
+        return False
+    by_key = {key: cost for (key, tree), cost in zip(book[1], prices)}
+    for entry, premises, key in instances(book, row, held):
+        total = sum(held[premise] for premise in premises) + (by_key[key] if key else 0)
+        if entry not in held or held[entry] * way > total * way:
+            return False
+    return True
+
+
+def cost_of(book, prices, plan):
+    """The price of a plan."""
+    by_key = {key: cost for (key, tree), cost in zip(book[1], prices)}
+    return sum(by_key[key] for key in keys_in(plan))
+
+
+class Great(Exception):
+    """There are more plans than a test can hold."""
+
+
+def plans_of_signs(book, most, cap=3000):
+    """All whole plans of a book whose rows have at most so many signs: each tree has a sign, so that they end."""
+    trees = dict(book[1])
+    known = {}
+
+    def plans(key, many):
+        if (key, many) not in known:
+            own = sum(piece[0] == "sign" for piece in pieces(trees[key]))
+            partial = [((), many - own)] if own <= many else []
+            for place, piece in walked(trees[key]):
+                partial = put_in(partial, place, piece)
+            known[key, many] = [(key, puts) for puts, rest in partial if rest == 0]
+        return known[key, many]
+
+    def put_in(partial, place, piece):
+        others = put_keys(book, piece)
+        idle = piece[0] not in ("hole", "knot") or piece[0] == "knot" and not (piece[2] and piece[2][1])
+        told = []
+        for puts, rest in partial:
+            if idle:
+                told.append((puts, rest))
+            for other in others:
+                for many in range(1, rest + 1):
+                    told.extend((puts + ((place, plan),), rest - many) for plan in plans(other, many))
+            if len(told) > cap:
+                raise Great
+        return told
+
+    return [plan for many in range(most + 1) for key in put_keys(book, ("hole", book[0])) for plan in plans(key, many)]
+
+
+def rows_and_plans(book, most, cap=3000):
+    """The rows of at most so many signs that whole plans have, each with all its plans."""
+    told = {}
+    for plan in plans_of_signs(book, most, cap):
+        row = tuple(piece[1] for piece in pieces(grown(book, plan)) if piece[0] == "sign")
+        told.setdefault(row, []).append(plan)
+    return told
+
+
+def chance_piece(chance, depth, names):
+    """A tree of at most so many knots within one another, without a foot."""
+    rolled = chance.random()
+    if depth and rolled < 0.45:
+        return chance_knot(chance, depth, names)
+    if rolled < 0.75:
+        return sign(chance.choice(["a", "b", "ab"]))
+    return VOID if rolled < 0.85 else ("hole", chance.choice(names))
+
+
+def chance_knot(chance, depth, names):
+    kids = [chance_piece(chance, depth - 1, names) for count in range(chance.choice([1, 1, 2, 3]))]
+    takes = None if chance.random() < 0.5 else (chance.choice(names), chance.random() < 0.3)
+    return knot(chance.choice(names), *kids, takes=takes)
+
+
+def with_foot(chance, tree, name):
+    """A knot with a foot put between the kids of one of its knots."""
+    at = chance.choice([place for place, piece in walked(tree) if piece[0] == "knot"])
+
+    def put(place, piece):
+        if piece[0] != "knot":
+            return piece
+        kids = [put(place + (number,), kid) for number, kid in enumerate(piece[3])]
+        if place == at:
+            kids.insert(chance.randrange(len(kids) + 1), ("foot", name))
+        return piece[:3] + (tuple(kids),)
+
+    return put((), tree)
+
+
+def chance_book(seed, many=5, names=("S", "M", "SM")):
+    """A book made by chance, the same for the same seed."""
+    chance = random.Random(seed)
+    trees = []
+    while len(trees) < many:
+        tree = chance_knot(chance, chance.choice([1, 1, 2, 3]), names)
+        if chance.random() < 0.5:
+            tree = with_foot(chance, tree, chance.choice(names))
+        if tree_fault(tree) is None:
+            trees.append(("k" + "1" * len(trees), tree))
+    # One start that ends for the top, that most books have plans.
+    return ("S", tuple(trees) + (("k0", knot("S", A, takes=(chance.choice(names), False))),))
+
+
+# Books in which trees can be put in the same ones again and again.
+ROUNDS = [
+    ("S", (("s", knot("S", ("hole", "S"), ("hole", "S"), A)), ("t", knot("S", A)))),
+    ("S", (("s", knot("S", A, takes=("M", False))), ("m", knot("S", ("foot", "M"), B, takes=("M", False))))),
+    ("S", (
+        ("s", knot("S", A, ("hole", "T"))), ("t", knot("T", ("hole", "S"), B)), ("u", knot("T", B, takes=("M", True))),
+        ("m", knot("T", knot("X", ("foot", "M"), takes=("M", False)), A)),
+    )),
+    # None of these ends.
+    ("S", (("s", knot("S", ("hole", "S"), A)), ("m", knot("M", A, ("foot", "M"), takes=("M", True))))),
+    ("S", (("s", knot("S", A, takes=("M", True))), ("m", knot("M", A, ("foot", "M"), ("hole", "S"))))),
+]
+
+# A book in which much comes in many ways.
+DENSE = ("S", (
+    ("s", knot("S", A, takes=("M", False))),
+    ("t", knot("S", ("hole", "S"), ("hole", "S"), A, takes=("M", False))),
+    ("u", knot("S", knot("X", ("hole", "S"), A, takes=("M", False)), knot("Y", A, VOID, takes=("K", False)))),
+    ("g", knot("X", A, knot("Y", ("foot", "M"), takes=("M", False)), takes=("M", False))),
+    ("h", knot("X", knot("Y", ("foot", "M"), takes=("K", False)), A, takes=("M", False))),
+    ("i", knot("X", A, knot("Y", knot("Z", ("foot", "M"), takes=("K", False)), ("hole", "S")), A, takes=("K", False))),
+    ("j", knot("X", knot("Y", ("foot", "K"), takes=("M", False)), knot("Z", ("hole", "S"), A, takes=("M", False)))),
+))
+
+
+def many_of_signs(book, signs):
+    """How many whole plans of a book have rows of just so many signs."""
+    trees = dict(book[1])
+    known = {}
+
+    def many(key, left):
+        if (key, left) not in known:
+            own = sum(piece[0] == "sign" for piece in pieces(trees[key]))
+            # For each number of signs left, in how many ways all places seen so far can be seen to.
+            ways = [0] * (left + 1)
+            if own <= left:
+                ways[left - own] = 1
+            for piece in pieces(trees[key]):
+                others = put_keys(book, piece)
+                idle = piece[0] not in ("hole", "knot") or piece[0] == "knot" and not (piece[2] and piece[2][1])
+                seen, ways = ways, [count * idle for count in ways]
+                for rest, put in itertools.product(range(left), range(1, left)):
+                    # Some signs are the tree's own: fewer than all are left to what is put.
+                    if rest + put < left and seen[rest + put]:
+                        ways[rest] += seen[rest + put] * sum(many(other, put) for other in others)
+            known[key, left] = ways[0]
+        return known[key, left]
+
+    return sum(many(key, signs) for key in put_keys(book, ("hole", book[0])))
