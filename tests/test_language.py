@@ -23,6 +23,27 @@ BARRED_NAMES = set(
     " copyright credits delattr dir eval exec exit gc getattr globals hasattr help id importlib license locals"
     " methodcaller os quit setattr type vars sys".split()
 )
+# The methods of builtin values that the rules allow, and all names that such values have.
+METHODS = set(
+    "append clear copy count endswith extend find get index insert isalnum isalpha isdigit islower isspace isupper items"
+    " join keys ljust lower lstrip partition pop remove replace reverse rfind rjust rpartition rsplit rstrip setdefault"
+    " split splitlines startswith strip update upper values zfill bit_length add discard sort".split()
+)
+TAKEN_NAMES = {
+    name for kind in [int, str, bytes, bool, list, tuple, dict, set, frozenset] for name in dir(kind) if name[0] != "_"
+}
+# What the document's interface lists, stage by stage: of lower stages nothing else is drawn.
+STAGES = [
+    {"errors": "GraftError NoPlace NoText NoKey Twice NoTree NoRow TooMany TwoSided NoPlan NoLine"},
+    {"trees": "is_name is_sign is_tree places piece_at put_at signs_of", "words": "tree_text read_tree take_tree"},
+    {"books": "is_key is_book is_graft name_of tree_of made_book", "booktexts": "book_rows read_book"},
+    {"plans": "takers is_plan is_whole size_of", "building": "built row_of", "plantexts": "plan_text read_plan take_plan"},
+    {"entries": "entries", "reading": "read shows_none"},
+    {"counts": "many_read plans_read"},
+    {"prices": "price_of best bears"},
+    {"useful": "useful shows_unused trimmed"},
+]
+LISTED = {name: set(names.split()) for stage in STAGES for name, names in stage.items()}
 BARRED_NODES = (
     ast.Global, ast.AsyncFunctionDef, ast.AsyncFor, ast.AsyncWith, ast.Await, ast.Import, ast.Div, ast.MatMult,
 )
@@ -120,6 +141,72 @@ class Language(unittest.TestCase):
                 defined = [part for part in source.body if not isinstance(part, ast.ImportFrom)]
                 for alias in node.names:
                     self.assertIn(alias.name, module_names(ast.Module(defined, [])), name)
+
+    def test_the_interface_is_there_and_nothing_else_is_drawn_from_it(self):
+        for name, names in LISTED.items():
+            self.assertLessEqual(names, set(module_names(self.trees[name + ".py"])), name)
+        for name, tree in self.trees.items():
+            for node in ast.walk(tree):
+                if isinstance(node, ast.ImportFrom):
+                    source = node.module.split(".")[1]
+                    for alias in node.names:
+                        self.assertIn(alias.name, LISTED.get(source, {alias.name}), name)
+
+    def test_no_files_import_each_other(self):
+        drawn = {
+            name[:-3]: {node.module.split(".")[1] for node in ast.walk(tree) if isinstance(node, ast.ImportFrom)}
+            for name, tree in self.trees.items()
+        }
+        while drawn:
+            free = [name for name, sources in drawn.items() if not sources & set(drawn)]
+            self.assertTrue(free, drawn)
+            for name in free:
+                del drawn[name]
+
+    def test_methods_and_attributes(self):
+        methods, fields = set(), set()
+        for tree in self.trees.values():
+            for node in ast.walk(tree):
+                if isinstance(node, ast.ClassDef):
+                    methods.update(part.name for part in node.body if isinstance(part, ast.FunctionDef))
+                elif isinstance(node, ast.Attribute) and isinstance(node.ctx, ast.Store):
+                    fields.add(node.attr)
+        methods = {name for name in methods if not name.startswith("__")}
+        self.assertFalse(methods & fields)
+        self.assertFalse((methods | fields) & (TAKEN_NAMES | BARRED_NAMES))
+        for name, tree in self.trees.items():
+            called = [node.func for node in ast.walk(tree) if isinstance(node, ast.Call)]
+            for node in ast.walk(tree):
+                if isinstance(node, ast.Attribute) and isinstance(node.ctx, ast.Load):
+                    sound = METHODS | methods | {"__init__"} if node in called else fields
+                    self.assertIn(node.attr, sound, (name, node.lineno))
+
+    def test_what_loops_go_over_is_not_changed_in_them(self):
+        for name, tree in self.trees.items():
+            for loop in ast.walk(tree):
+                if isinstance(loop, ast.For):
+                    gone_over = {ast.unparse(node) for node in ast.walk(loop.iter) if isinstance(node, (ast.Name, ast.Attribute))}
+                    for node in [part for row in loop.body + loop.orelse for part in ast.walk(row)]:
+                        if isinstance(node, ast.Subscript) and not isinstance(node.ctx, ast.Load):
+                            self.assertNotIn(ast.unparse(node.value), gone_over, (name, node.lineno))
+                        if isinstance(node, ast.Attribute) and node.attr in ("append", "extend", "pop", "insert", "clear", "update"):
+                            self.assertNotIn(ast.unparse(node.value), gone_over, (name, node.lineno))
+
+    def test_views_are_gone_over_at_once(self):
+        for name, tree in self.trees.items():
+            heads = []
+            for node in ast.walk(tree):
+                if isinstance(node, (ast.For, ast.comprehension)):
+                    heads.append(node.iter)
+                elif isinstance(node, ast.Call) and isinstance(node.func, ast.Name) and node.func.id in (
+                        "list", "tuple", "dict", "sorted", "sum", "any", "all", "enumerate", "zip", "min", "max", "reversed"):
+                    heads.extend(node.args)
+            for node in ast.walk(tree):
+                if isinstance(node, ast.Call):
+                    view = isinstance(node.func, ast.Attribute) and node.func.attr in ("items", "keys", "values")
+                    loose = isinstance(node.func, ast.Name) and node.func.id in ("zip", "enumerate", "reversed", "range")
+                    if view or loose:
+                        self.assertIn(node, heads, (name, node.lineno))
 
     def test_builtins(self):
         for name, tree in self.trees.items():

@@ -1,10 +1,15 @@
-"""Points 4, 8, 11 and 12: what is told of a book is told of the same book with other names, keys, signs and order."""
+"""Points 4, 8, 11, 12, 14, 15, 17, 18 and 20: what is told of a book is told of it with other names, keys, signs, order."""
 
 import unittest
 
 from graftsay.books import is_book, is_graft, name_of, tree_of
 from graftsay.building import built, row_of
+from graftsay.counts import many_read, plans_read
+from graftsay.entries import entries
 from graftsay.plans import is_plan, is_whole, size_of, takers
+from graftsay.prices import best
+from graftsay.reading import read, shows_none
+from graftsay.useful import shows_unused, trimmed, useful
 from tests.support import BOUNDED, BOUNDED_PLANS, ENDLESS, ENDLESS_PLANS, pieces, spoiled
 
 
@@ -32,6 +37,9 @@ class Renaming:
 
     def row(self, row):
         return tuple(self.sign(text) for text in row)
+
+    def entries(self, told):
+        return sorted((self.key(entry[0]),) + entry[1:] for entry in told)
 
 
 LETTERS = "abcdefghijklmnopqrstuvwxyz"
@@ -99,6 +107,52 @@ class Renamed(unittest.TestCase):
                 for thing in spoiled(plan, odd):
                     if is_planned(thing):
                         self.assertEqual(is_plan(other, renaming.plan(thing)), is_plan(book, thing), thing)
+
+
+class RenamedRows(unittest.TestCase):
+    def rows(self, book, plans):
+        """Rows of some whole plans, and the same turned about."""
+        told = [row_of(book, plan) for plan in plans if is_whole(book, plan)]
+        told = [row for row in told if len(row) <= 8][::7] + [()]
+        return told + [row[::-1] for row in told]
+
+    def test_entries(self):
+        for book, plans, renaming, other in CASES:
+            for row in self.rows(book, plans):
+                told = entries(book, row)
+                self.assertEqual(entries(other, renaming.row(row)), renaming.entries(told))
+                self.assertIs(
+                    shows_none(other, renaming.row(row), renaming.entries(told)), shows_none(book, row, told))
+                self.assertEqual(read(other, renaming.row(row))[0], read(book, row)[0])
+
+    def test_plans_read(self):
+        for book, plans, renaming, other in CASES:
+            for row in self.rows(book, plans):
+                self.assertEqual(many_read(other, renaming.row(row)), many_read(book, row))
+                told = sorted(renaming.plan(plan) for plan in plans_read(book, row, 1000))
+                self.assertEqual(plans_read(other, renaming.row(row), 1000), told)
+
+    def test_best(self):
+        for book, plans, renaming, other in CASES:
+            prices = {renaming.key(key): 7 * number for number, (key, tree) in enumerate(book[1])}
+            for row in self.rows(book, plans):
+                for dear in [False, True]:
+                    told = best(book, [7 * number for number in range(len(book[1]))], row, dear)
+                    same = best(other, [prices[key] for key, tree in other[1]], renaming.row(row), dear)
+                    self.assertEqual((same[0], same[2:3]), (told[0], told[2:3]))
+
+    def test_useful(self):
+        for book, plans, renaming, other in CASES:
+            for top in "SNMKQ":
+                mine, others = (top, book[1]), (renaming.name(top), other[1])
+                told, same = useful(mine), useful(others)
+                for part in range(4):
+                    keys = [row if part > 1 else row[0] for row in told[part]]
+                    found = [row if part > 1 else row[0] for row in same[part]]
+                    self.assertEqual(sorted(found), sorted(renaming.key(key) for key in keys))
+                self.assertIs(shows_unused(others, [renaming.key(key) for key in told[2]], same[3]), True)
+                if told[1]:
+                    self.assertEqual(dict(trimmed(others)[1]), dict(renaming.trees(trimmed(mine))))
 
 
 def is_planned(thing):
