@@ -5,6 +5,7 @@ the sum of its premises' sizes, so that of two entries one behind the other, or 
 tell those of the other, once the sizes are told.
 """
 
+from graftsay.kinds import are_whole_numbers
 from graftsay.steps import Layout
 
 
@@ -283,13 +284,3 @@ def is_entry(chart, thing):
     if chart.layout.steps[chart.layout.numbers[(key, place, done)]].footed:
         return 0 <= begin <= low <= high <= end <= len(chart.row)
     return 0 <= begin <= end <= len(chart.row) and low == -1 and high == -1
-
-
-def are_whole_numbers(thing):
-    """Whether a thing is a tuple of whole numbers."""
-    return isinstance(thing, tuple) and all(is_whole_number(number) for number in thing)
-
-
-def is_whole_number(thing):
-    """Whether a thing is a whole number."""
-    return isinstance(thing, int) and not isinstance(thing, bool)

@@ -1,6 +1,7 @@
 """Plans: which trees of a book are put into which."""
 
 from graftsay.books import is_graft, name_of, tree_of
+from graftsay.kinds import are_whole_numbers
 from graftsay.trees import piece_at, places
 
 
@@ -46,15 +47,8 @@ def are_placed(thing):
     """Whether a thing is a tuple of tuples of a place, be it a tree's or not, and one thing more."""
     if not isinstance(thing, tuple):
         return False
-    return all(isinstance(put, tuple) and len(put) == 2 and are_numbers(put[0]) for put in thing)
-
-
-def are_numbers(thing):
-    """Whether a thing is a tuple of whole numbers."""
     # A truth equals a number, so that it would pass as one where places are held against each other.
-    if not isinstance(thing, tuple):
-        return False
-    return all(isinstance(number, int) and not isinstance(number, bool) for number in thing)
+    return all(isinstance(put, tuple) and len(put) == 2 and are_whole_numbers(put[0]) for put in thing)
 
 
 def stand_as_due(tree, put_places):

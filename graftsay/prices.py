@@ -1,8 +1,7 @@
 """Prices of plans, the cheapest and the dearest plan of a row, and worths that bear them out."""
 
-from graftsay.charts import (
-    Chart, filled_chart, goals_in, is_closed, is_whole_number, lay_entry, listed, listed_entries, worth_of,
-)
+from graftsay.charts import Chart, filled_chart, goals_in, is_closed, lay_entry, listed, listed_entries, worth_of
+from graftsay.kinds import is_whole_number
 from graftsay.unfolding import plans_from
 
 

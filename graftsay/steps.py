@@ -1,6 +1,6 @@
 """A book laid out as steps: which entries come of which."""
 
-from graftsay.books import is_graft, name_of
+from graftsay.slots import family_of
 
 
 class Step:
@@ -34,7 +34,7 @@ class Layout:
         self.families = {}
         for key, tree in book[1]:
             whole = lay_piece(self, key, (), tree)
-            self.families.setdefault((is_graft(tree), name_of(tree)), []).append(whole)
+            self.families.setdefault(family_of(tree), []).append(whole)
 
 
 def lay_piece(layout, key, place, piece):

@@ -9,7 +9,12 @@ from graftsay.charts import has_item
 def plans_from(chart, goal, picked):
     """The plans of an item of a whole; picked(chart, item, ways) is a list of those ways that are gone, of all."""
     key, place, done = chart.layout.steps[goal[0]].spot
-    return [(key, puts) for puts in unfolded(chart, goal, picked)]
+    puts_told = unfolded(
+        goal,
+        lambda item: picked(chart, item, ways_to(chart, item)),
+        lambda item, way, found: puts_by(chart, item, way, found),
+    )
+    return [(key, puts) for puts in puts_told]
 
 
 def all_ways(chart, item, ways):
@@ -22,19 +27,22 @@ def first_way(chart, item, ways):
     return ways[:1]
 
 
-def unfolded(chart, goal, picked):
-    """The tuples of puts that build an item."""
+def unfolded(goal, ways_of, made):
+    """What is made of an item: the list of all that made(item, way, found) tells of each of its ways.
+
+    ways_of(item) are the ways in which an item comes; found has for each of a way's items what is made of it.
+    """
     # A list of what waits, instead of calls within calls: items hang on one another deeper than calls may go.
     found = {}
     waiting = [goal]
     while waiting:
         item = waiting[-1]
-        ways = picked(chart, item, ways_to(chart, item))
+        ways = ways_of(item)
         missing = [part for way in ways for part in way if part not in found]
         if missing:
             waiting.extend(missing)
         else:
-            found[item] = [puts for way in ways for puts in puts_by(chart, item, way, found)]
+            found[item] = [one for way in ways for one in made(item, way, found)]
             waiting.pop()
     return found[goal]
 

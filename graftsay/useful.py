@@ -1,39 +1,12 @@
 """Which trees of a book end, which are of use, and the book of those alone."""
 
-from graftsay.books import is_graft, name_of
 from graftsay.errors import NoPlan
-from graftsay.trees import piece_at, places
-
-
-class Slot:
-    """A place of a tree at which trees of a family can be put: a tuple of whether they are grafts and their name."""
-
-    def __init__(self, place, family, must):
-        self.place = place
-        self.family = family
-        self.must = must
-
-
-def family_of(tree):
-    """The family of a start or a graft."""
-    return (is_graft(tree), name_of(tree))
-
-
-def slots_of(tree):
-    """The slots of a tree, in the order of their places."""
-    found = []
-    for place in places(tree):
-        piece = piece_at(tree, place)
-        if piece[0] == "hole":
-            found.append(Slot(place, (False, piece[1]), True))
-        if piece[0] == "knot" and piece[2] is not None:
-            found.append(Slot(place, (True, piece[2][0]), piece[2][1]))
-    return found
+from graftsay.slots import family_of, slots_by_key
 
 
 def useful(book):
     """The lists of what each tree that ends is built of, how each tree of use comes, and the keys of the others."""
-    slots = {key: slots_of(tree) for key, tree in book[1]}
+    slots = slots_by_key(book)
     built = built_list(book, slots)
     ending = {key: True for key, puts in built}
     come = come_list(book, slots, ending)
@@ -89,7 +62,7 @@ def shows_unused(book, ends, ways):
         return False
     if any(key in ends for key in ways):
         return False
-    slots = {key: slots_of(tree) for key, tree in book[1]}
+    slots = slots_by_key(book)
     return do_not_end(book, slots, ends) and are_not_reached(book, slots, ends, ways)
 
 

@@ -512,14 +512,25 @@ class Great(Exception):
     """There are more plans than a test can hold."""
 
 
-def plans_of_signs(book, most, cap=3000):
-    """All whole plans of a book whose rows have at most so many signs: each tree has a sign, so that they end."""
+def signs_in(tree):
+    return sum(piece[0] == "sign" for piece in pieces(tree))
+
+
+def one_key(tree):
+    return 1
+
+
+def plans_of_signs(book, most, cap=3000, weigh=signs_in):
+    """All whole plans of a book whose rows have at most so many signs: each tree has a sign, so that they end.
+
+    With one_key to weigh a tree, all whole plans of at most so many keys.
+    """
     trees = dict(book[1])
     known = {}
 
     def plans(key, many):
         if (key, many) not in known:
-            own = sum(piece[0] == "sign" for piece in pieces(trees[key]))
+            own = weigh(trees[key])
             partial = [((), many - own)] if own <= many else []
             for place, piece in walked(trees[key]):
                 partial = put_in(partial, place, piece)
@@ -547,8 +558,7 @@ def rows_and_plans(book, most, cap=3000):
     """The rows of at most so many signs that whole plans have, each with all its plans."""
     told = {}
     for plan in plans_of_signs(book, most, cap):
-        row = tuple(piece[1] for piece in pieces(grown(book, plan)) if piece[0] == "sign")
-        told.setdefault(row, []).append(plan)
+        told.setdefault(row_in(book, plan), []).append(plan)
     return told
 
 
@@ -622,14 +632,14 @@ DENSE = ("S", (
 ))
 
 
-def many_of_signs(book, signs):
-    """How many whole plans of a book have rows of just so many signs."""
+def many_of_signs(book, signs, weigh=signs_in):
+    """How many whole plans of a book have rows of just so many signs; with one_key, have just so many keys."""
     trees = dict(book[1])
     known = {}
 
     def many(key, left):
         if (key, left) not in known:
-            own = sum(piece[0] == "sign" for piece in pieces(trees[key]))
+            own = weigh(trees[key])
             # For each number of signs left, in how many ways all places seen so far can be seen to.
             ways = [0] * (left + 1)
             if own <= left:
@@ -639,10 +649,101 @@ def many_of_signs(book, signs):
                 idle = piece[0] not in ("hole", "knot") or piece[0] == "knot" and not (piece[2] and piece[2][1])
                 seen, ways = ways, [count * idle for count in ways]
                 for rest, put in itertools.product(range(left), range(1, left)):
-                    # Some signs are the tree's own: fewer than all are left to what is put.
+                    # Some are the tree's own: fewer than all are left to what is put.
                     if rest + put < left and seen[rest + put]:
                         ways[rest] += seen[rest + put] * sum(many(other, put) for other in others)
             known[key, left] = ways[0]
         return known[key, left]
 
     return sum(many(key, signs) for key in put_keys(book, ("hole", book[0])))
+
+
+def row_in(book, plan):
+    """The row of a plan."""
+    return tuple(piece[1] for piece in pieces(grown(book, plan)) if piece[0] == "sign")
+
+
+def goes_along(walker, state, row):
+    """The state in which a walker ends that begins a row in a state, None where it stops on the way."""
+    for text in row:
+        told = [other for one, sign, other in walker[3] if (one, sign) == (state, text)]
+        if not told:
+            return None
+        state = told[0]
+    return state
+
+
+def takes_row(walker, row):
+    """Whether a walker takes a row."""
+    return goes_along(walker, walker[1], row) in walker[2]
+
+
+class Stopped(Exception):
+    """A walker has no step."""
+
+
+def dresses_in(book, walker, plan):
+    """The dresses that stand in a whole plan, a set of tuples (key, own, marks); None where its row is not taken."""
+    found = set()
+
+    def run(plan, own, state, beneath):
+        """Goes along what a plan builds; beneath goes along what hangs on its foot."""
+        puts = dict(plan[1])
+        marks = []
+
+        def marked(place, done, ahead, behind):
+            marks.append((place, done, ahead, behind))
+            return behind
+
+        def along(place, piece, state):
+            if piece[0] == "sign":
+                behind = goes_along(walker, state, [piece[1]])
+                if behind is None:
+                    raise Stopped
+                return behind
+            if piece[0] == "void":
+                return state
+            if piece[0] == "foot":
+                return marked(place, True, state, beneath(state))
+            if piece[0] == "hole":
+                return marked(place, True, state, run(puts[place], False, state, None))
+
+            def bare(first):
+                behind = first
+                for number, kid in enumerate(piece[3]):
+                    behind = along(place + (number,), kid, behind)
+                return marked(place, False, first, behind)
+
+            return marked(place, True, state, run(puts[place], False, state, bare) if place in puts else bare(state))
+
+        last = along((), dict(book[1])[plan[0]], state)
+        found.add((plan[0], own, tuple(sorted(marks))))
+        return last
+
+    try:
+        last = run(plan, True, walker[1], None)
+    except Stopped:
+        return None
+    return found if last in walker[2] else None
+
+
+def chance_walker(seed, signs=("a", "b", "ab", "c", "d", "e", "f")):
+    """A walker made by chance, the same for the same seed."""
+    chance = random.Random(seed)
+    many = chance.randint(1, 5)
+    steps = [
+        (state, text, chance.randrange(many)) for state in range(many) for text in signs if chance.random() < 0.8]
+    chance.shuffle(steps)
+    ends = sorted(chance.sample(range(many), chance.randint(0, many)))
+    return (many, chance.randrange(many), tuple(ends), tuple(steps[:40]))
+
+
+def numbered(trees):
+    """A book of trees, with the top S."""
+    return ("S", tuple(("k" + str(number), tree) for number, tree in enumerate(trees)))
+
+
+def chain_of(many, last=A):
+    """A book of starts, each with a hole for the next one."""
+    trees = [knot("N" + str(number) if number else "S", A, ("hole", "N" + str(number + 1))) for number in range(many - 1)]
+    return numbered(trees + [knot("N" + str(many - 1) if many > 1 else "S", last)])

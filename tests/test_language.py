@@ -42,6 +42,9 @@ STAGES = [
     {"counts": "many_read plans_read"},
     {"prices": "price_of best bears"},
     {"useful": "useful shows_unused trimmed"},
+    {"sizes": "many_of plans_of rows_to"},
+    {"endless": "gone endless is_round are_heights"},
+    {"walkers": "is_walker is_taken"},
 ]
 LISTED = {name: set(names.split()) for stage in STAGES for name, names in stage.items()}
 BARRED_NODES = (

@@ -1,16 +1,20 @@
-"""Points 4, 8, 11, 12, 14, 15, 17, 18 and 20: what is told of a book is told of it with other names, keys, signs, order."""
+"""Points 4, 8, 11, 12, 14, 15, 17, 18, 20 and 23 to 27: what is told of a book is told of it with other names, keys, signs, order."""
 
 import unittest
 
 from graftsay.books import is_book, is_graft, name_of, tree_of
 from graftsay.building import built, row_of
 from graftsay.counts import many_read, plans_read
+from graftsay.dresses import dresses_of
+from graftsay.endless import are_heights, endless, is_round
 from graftsay.entries import entries
 from graftsay.plans import is_plan, is_whole, size_of, takers
 from graftsay.prices import best
 from graftsay.reading import read, shows_none
+from graftsay.sizes import many_of, plans_of, rows_to
 from graftsay.useful import shows_unused, trimmed, useful
-from tests.support import BOUNDED, BOUNDED_PLANS, ENDLESS, ENDLESS_PLANS, pieces, spoiled
+from graftsay.walkers import is_taken, is_walker
+from tests.support import BOUNDED, BOUNDED_PLANS, ENDLESS, ENDLESS_PLANS, chance_walker, pieces, spoiled
 
 
 class Renaming:
@@ -37,6 +41,9 @@ class Renaming:
 
     def row(self, row):
         return tuple(self.sign(text) for text in row)
+
+    def walker(self, walker):
+        return walker[:3] + (tuple((state, self.sign(text), other) for state, text, other in walker[3]),)
 
     def entries(self, told):
         return sorted((self.key(entry[0]),) + entry[1:] for entry in told)
@@ -153,6 +160,50 @@ class RenamedRows(unittest.TestCase):
                 self.assertIs(shows_unused(others, [renaming.key(key) for key in told[2]], same[3]), True)
                 if told[1]:
                     self.assertEqual(dict(trimmed(others)[1]), dict(renaming.trees(trimmed(mine))))
+
+
+class RenamedSizes(unittest.TestCase):
+    def test_sizes(self):
+        for book, plans, renaming, other in CASES:
+            for size in [1, 2, 3, 4, 5, 17]:
+                self.assertEqual(many_of(other, size), many_of(book, size))
+                if size < 5:
+                    told = sorted(renaming.plan(plan) for plan in plans_of(book, size, 1000))
+                    self.assertEqual(plans_of(other, size, 1000), told)
+
+    def test_rows(self):
+        for book, plans, renaming, other in CASES:
+            told = [renaming.row(row) for row in rows_to(book, 8)]
+            self.assertEqual(rows_to(other, 8), sorted(told, key=lambda row: (len(row), row)))
+
+    def test_endless(self):
+        for book, plans, renaming, other in CASES:
+            for top in "SN":
+                if top == "N" and book is ENDLESS:
+                    continue
+                mine, others = (top, book[1]), (renaming.name(top), other[1])
+                word, first, second = endless(mine)
+                if word == "bounded":
+                    told = {renaming.key(key): number for key, number in second}
+                    order = [key for key, tree in other[1] if key in told]
+                    self.assertEqual(endless(others), (word, first, [(key, told[key]) for key in order]))
+                    self.assertIs(are_heights(others, [(key, told[key]) for key in order], first), True)
+                else:
+                    self.assertEqual(endless(others)[0], word)
+                    way, ring = [[(renaming.key(key), place) for key, place in path] for path in (first, second)]
+                    self.assertIs(is_round(others, way, ring), True)
+
+    def test_walkers(self):
+        for book, plans, renaming, other in CASES:
+            for seed in range(5):
+                walker = chance_walker(seed, tuple("abcdefg") if seed else tuple("abcdefghij"))
+                same = renaming.walker(walker)
+                self.assertIs(is_walker(same), True)
+                for plan in plans[::11]:
+                    row = row_of(book, plan)
+                    self.assertIs(is_taken(same, renaming.row(row)), is_taken(walker, row))
+                told = {(renaming.key(key), own, marks) for key, own, marks in dresses_of(book, walker, 400)}
+                self.assertEqual(set(dresses_of(other, same, 400)), told)
 
 
 def is_planned(thing):
