@@ -526,7 +526,15 @@ def plans_of_signs(book, most, cap=3000, weigh=signs_in):
     With one_key to weigh a tree, all whole plans of at most so many keys.
     """
     trees = dict(book[1])
+    members = {}
     known = {}
+
+    def keys_at(piece):
+        # All that can be put at a piece hangs on these alone.
+        family = (piece[0], piece[1:2] if piece[0] == "hole" else piece[2:3])
+        if family not in members:
+            members[family] = put_keys(book, piece)
+        return members[family]
 
     def plans(key, many):
         if (key, many) not in known:
@@ -538,7 +546,7 @@ def plans_of_signs(book, most, cap=3000, weigh=signs_in):
         return known[key, many]
 
     def put_in(partial, place, piece):
-        others = put_keys(book, piece)
+        others = keys_at(piece)
         idle = piece[0] not in ("hole", "knot") or piece[0] == "knot" and not (piece[2] and piece[2][1])
         told = []
         for puts, rest in partial:
@@ -635,7 +643,19 @@ DENSE = ("S", (
 def many_of_signs(book, signs, weigh=signs_in):
     """How many whole plans of a book have rows of just so many signs; with one_key, have just so many keys."""
     trees = dict(book[1])
+    members = {}
     known = {}
+
+    def family_at(piece):
+        family = (piece[0], piece[1] if piece[0] == "hole" else piece[0] == "knot" and piece[2] and piece[2][0])
+        if family not in members:
+            members[family] = put_keys(book, piece)
+        return family
+
+    def together(family, left):
+        if (family, left) not in known:
+            known[family, left] = sum(many(key, left) for key in members[family])
+        return known[family, left]
 
     def many(key, left):
         if (key, left) not in known:
@@ -645,17 +665,19 @@ def many_of_signs(book, signs, weigh=signs_in):
             if own <= left:
                 ways[left - own] = 1
             for piece in pieces(trees[key]):
-                others = put_keys(book, piece)
+                family = family_at(piece)
                 idle = piece[0] not in ("hole", "knot") or piece[0] == "knot" and not (piece[2] and piece[2][1])
                 seen, ways = ways, [count * idle for count in ways]
+                if not members[family]:
+                    continue
                 for rest, put in itertools.product(range(left), range(1, left)):
                     # Some are the tree's own: fewer than all are left to what is put.
                     if rest + put < left and seen[rest + put]:
-                        ways[rest] += seen[rest + put] * sum(many(other, put) for other in others)
+                        ways[rest] += seen[rest + put] * together(family, put)
             known[key, left] = ways[0]
         return known[key, left]
 
-    return sum(many(key, signs) for key in put_keys(book, ("hole", book[0])))
+    return together(family_at(("hole", book[0])), signs)
 
 
 def row_in(book, plan):
@@ -747,3 +769,75 @@ def chain_of(many, last=A):
     """A book of starts, each with a hole for the next one."""
     trees = [knot("N" + str(number) if number else "S", A, ("hole", "N" + str(number + 1))) for number in range(many - 1)]
     return numbered(trees + [knot("N" + str(many - 1) if many > 1 else "S", last)])
+
+
+def all_dresses(book, walker, most=5000):
+    """All dresses that stand in whole plans that a walker takes, a set; Great where they seem to be very many.
+
+    Facts are grown till nothing more comes: a family and the states ahead of a whole of it and behind it, and those
+    ahead of its foot and behind that, if it has one. Then from the top on those dresses are kept that are come to.
+    """
+    facts = set()
+    while True:
+        told = [dress for key, tree in book[1] for dress in tree_dresses(book, walker, facts, key, tree, most)]
+        more = {fact for fact, key, marks, asked in told}
+        if more == facts:
+            break
+        facts = more
+    reached = {("start", book[0], walker[1], end) for end in walker[2]}
+    owned = {(key, True, marks) for fact, key, marks, asked in told if fact in reached}
+    reached = {ask for fact, key, marks, asked in told if fact in reached for ask in asked}
+    while True:
+        more = reached | {ask for fact, key, marks, asked in told if fact in reached for ask in asked}
+        found = owned | {(key, False, marks) for fact, key, marks, asked in told if fact in reached}
+        if more == reached:
+            return found
+        reached = more
+
+
+def tree_dresses(book, walker, facts, key, tree, most):
+    """Tuples of a fact, a key, marks and the facts that are asked for, for all that facts allow."""
+    states = range(walker[0])
+
+    def along(place, piece, state):
+        """Tuples of the state behind a piece, the states at its foot, marks and what is asked for."""
+        if piece[0] == "sign":
+            behind = goes_along(walker, state, [piece[1]])
+            return [] if behind is None else [(behind, (), (), ())]
+        if piece[0] == "void":
+            return [(state, (), (), ())]
+        if piece[0] == "foot":
+            return [(behind, (state, behind), ((place, True, state, behind),), ()) for behind in states]
+        if piece[0] == "hole":
+            asks = [("start", piece[1], state, behind) for behind in states]
+            return [(ask[3], (), ((place, True, state, ask[3]),), (ask,)) for ask in asks if ask in facts]
+        told = []
+        for first in states if piece[2] else [state]:
+            for last, foot, marks, asked in bare(place, piece, first):
+                for behind in states if piece[2] else [last]:
+                    same = (first, last) == (state, behind)
+                    ask = ("graft", piece[2][0], state, behind, first, last) if piece[2] else None
+                    if ask in facts or same and not (piece[2] and piece[2][1]):
+                        more = ((place, False, first, last), (place, True, state, behind))
+                        told.append((behind, foot, marks + more, asked + ((ask,) if ask in facts else ())))
+        if len(told) > most:
+            raise Great
+        return told
+
+    def bare(place, piece, first):
+        told = [(first, (), (), ())]
+        for number, kid in enumerate(piece[3]):
+            told = [
+                (behind, foot + more_foot, marks + more_marks, asked + more_asked)
+                for middle, foot, marks, asked in told
+                for behind, more_foot, more_marks, more_asked in along(place + (number,), kid, middle)
+            ]
+            if len(told) > most:
+                raise Great
+        return told
+
+    feet = [piece[1] for piece in pieces(tree) if piece[0] == "foot"]
+    for ahead in states:
+        for behind, foot, marks, asked in along((), tree, ahead):
+            kind = ("graft", feet[0]) if feet else ("start", tree[1])
+            yield kind + (ahead, behind) + foot, key, tuple(sorted(marks)), asked

@@ -7,8 +7,8 @@ from graftsay.dresses import dresses_of
 from graftsay.errors import GraftError, TooMany
 from graftsay.plans import is_whole
 from tests.support import (
-    A, B, BOUNDED, BOUNDED_PLANS, C, DENSE, ENDLESS, ROUNDS, VOID, Great, chain_of, chance_book, chance_walker,
-    dresses_in, knot, numbered, plans_of_signs, sign,
+    A, B, BOUNDED, BOUNDED_PLANS, C, DENSE, ENDLESS, ROUNDS, VOID, Great, all_dresses, chain_of, chance_book,
+    chance_walker, dresses_in, knot, numbered, plans_of_signs, sign,
 )
 
 FOOT = ("foot", "M")
@@ -19,7 +19,7 @@ ALL = (1, 0, (0,), tuple((0, letter, 0) for letter in "abcdefghij"))
 WHOLE = [plan for plan in BOUNDED_PLANS if is_whole(BOUNDED, plan)]
 
 
-def all_dresses(book, walker, plans):
+def dresses_by_plans(book, walker, plans):
     found = set()
     for plan in plans:
         found |= dresses_in(book, walker, plan) or set()
@@ -41,7 +41,8 @@ class Dresses(unittest.TestCase):
 
     def check(self, book, walker, plans):
         before = repr((book, walker))
-        due = in_order(book, all_dresses(book, walker, plans))
+        due = in_order(book, dresses_by_plans(book, walker, plans))
+        self.assertEqual(all_dresses(book, walker), set(due))
         told = dresses_of(book, walker, 400)
         self.assertIs(type(told), list)
         self.assertEqual(repr(told), repr(due), (book, walker))
@@ -70,10 +71,7 @@ class Dresses(unittest.TestCase):
         found = [self.check(BOUNDED, ALL, WHOLE), self.check(BOUNDED, EVEN, WHOLE)]
         for seed in range(60):
             walker = chance_walker(seed, tuple("abcdefghij"))
-            try:
-                found.append(self.check(BOUNDED, walker, WHOLE))
-            except TooMany:
-                self.assertGreater(len(all_dresses(BOUNDED, walker, WHOLE)), 400)
+            found.append(self.check(BOUNDED, walker, WHOLE))
         self.assertGreater(sum(many > 0 for many in found), 10)
         self.assertGreater(sum(many > 20 for many in found), 5)
 
@@ -84,21 +82,25 @@ class Dresses(unittest.TestCase):
                 self.check(book, walker, plans)
 
     def test_books_made_by_chance(self):
-        alike = 0
-        for seed in range(300):
-            book = chance_book(seed, 1 + seed % 6)
-            walker = chance_walker(seed, ("a", "b", "ab"))
-            try:
-                plans = plans_of_signs(book, 7, 8000)
-                told = dresses_of(book, walker, 400)
-            except (Great, TooMany):
+        found = {"some": 0, "many": 0, "none": 0}
+        for seed in range(600):
+            book = chance_book(seed, 1 + seed % 6) if seed % 3 else [DENSE, ENDLESS][seed % 2]
+            walker = chance_walker(seed, ("a", "b", "ab", "c", "d", "e"))
+            due = all_dresses(book, walker)
+            if len(due) > 400:
+                self.refused(book, walker, 400)
+                found["many"] += 1
                 continue
-            due = in_order(book, all_dresses(book, walker, plans))
-            # What is told beyond this stands in longer plans: tests of held books see to it.
-            self.assertEqual([dress for dress in told if dress in due], due)
-            self.assertFalse(due and not told)
-            alike += told == due and len(told) > 0
-        self.assertGreater(alike, 30)
+            self.assertEqual(dresses_of(book, walker, 400), in_order(book, due))
+            found["some" if due else "none"] += 1
+            try:
+                plans = plans_of_signs(book, 5, 2000)
+            except Great:
+                continue
+            self.assertLessEqual(dresses_by_plans(book, walker, plans), due)
+        self.assertGreater(found["some"], 150)
+        self.assertGreater(found["none"], 150)
+        self.assertGreater(found["many"], 5)
 
     def test_own_trees_are_counted_apart(self):
         book = numbered([knot("S", A, ("hole", "S")), knot("S", A)])

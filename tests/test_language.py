@@ -44,7 +44,10 @@ STAGES = [
     {"useful": "useful shows_unused trimmed"},
     {"sizes": "many_of plans_of rows_to"},
     {"endless": "gone endless is_round are_heights"},
-    {"walkers": "is_walker is_taken"},
+    {"walkers": "is_walker is_taken", "held": "held"},
+    {"sides": "one_sided without_grafts"},
+    {"alike": "held_apart"},
+    {"desk": "Desk"},
 ]
 LISTED = {name: set(names.split()) for stage in STAGES for name, names in stage.items()}
 BARRED_NODES = (

@@ -1,16 +1,19 @@
-"""Points 4, 8, 11, 12, 14, 15, 17, 18, 20 and 23 to 27: what is told of a book is told of it with other names, keys, signs, order."""
+"""Points 4, 8, 11, 12, 14, 15, 17, 18, 20 and 23 to 29: what is told of a book is told of it with other names, keys, signs, order."""
 
 import unittest
 
+from graftsay.alike import held_apart
 from graftsay.books import is_book, is_graft, name_of, tree_of
 from graftsay.building import built, row_of
 from graftsay.counts import many_read, plans_read
 from graftsay.dresses import dresses_of
 from graftsay.endless import are_heights, endless, is_round
 from graftsay.entries import entries
+from graftsay.held import held
 from graftsay.plans import is_plan, is_whole, size_of, takers
 from graftsay.prices import best
 from graftsay.reading import read, shows_none
+from graftsay.sides import one_sided
 from graftsay.sizes import many_of, plans_of, rows_to
 from graftsay.useful import shows_unused, trimmed, useful
 from graftsay.walkers import is_taken, is_walker
@@ -204,6 +207,20 @@ class RenamedSizes(unittest.TestCase):
                     self.assertIs(is_taken(same, renaming.row(row)), is_taken(walker, row))
                 told = {(renaming.key(key), own, marks) for key, own, marks in dresses_of(book, walker, 400)}
                 self.assertEqual(set(dresses_of(other, same, 400)), told)
+                mine, others = held(book, walker), held(other, same)
+                self.assertEqual(sorted(old for key, old in others[1]) if others else None,
+                                 sorted(renaming.key(old) for key, old in mine[1]) if mine else None)
+                for size in [1, 2, 3, 4]:
+                    self.assertEqual(many_of(others[0], size) if others else 0, many_of(mine[0], size) if mine else 0)
+
+    def test_books_apart(self):
+        for book, plans, renaming, other in CASES:
+            self.assertIs(one_sided(other), one_sided(book))
+            less, lesser = [(one[0], tuple(row for row in one[1] if row[0] != key)) for one, key in [
+                (book, "t" if book is BOUNDED else "s"), (other, renaming.key("t" if book is BOUNDED else "s"))]]
+            told, same = held_apart(book, less, 6), held_apart(other, lesser, 6)
+            self.assertEqual((same[0], len(same[1]), same[2]), (told[0], len(told[1]), told[2]))
+            self.assertEqual(held_apart(other, (other[0], other[1][::-1]), 6)[0], "alike")
 
 
 def is_planned(thing):
