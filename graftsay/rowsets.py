@@ -17,7 +17,6 @@ class Rows:
     """
 
     def __init__(self, book, length, most):
-        self.length = length
         self.most = most
         self.layout = Layout(book)
         self.room = room_of(self.layout, least_signs(self.layout, length), (False, book[0]), length)

@@ -62,9 +62,10 @@ def many_of(book, size):
 def plans_of(book, size, most):
     """All whole plans of a size, sorted; refused where they are more than most."""
     tally = filled_tally(book, size)
-    if many_in(tally, size) > most:
+    many = many_in(tally, size)
+    if many > most:
         raise TooMany(most)
-    return sorted(family_plans(tally, tally.top, size, {}))
+    return sorted(family_plans(tally, tally.top, size, {})) if many > 0 else []
 
 
 def family_plans(tally, family, size, known):

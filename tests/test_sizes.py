@@ -1,10 +1,12 @@
 """Points 2, 3, 4 and 23: how many whole plans of a size there are, and which; the rows of whole plans up to a length."""
 
+import itertools
 import time
 import unittest
 
 from graftsay.errors import GraftError, TooMany
 from graftsay.plans import is_plan, is_whole, size_of
+from graftsay.rowsets import whole_rows
 from graftsay.sizes import many_of, plans_of, rows_to
 from tests.support import (
     A, B, BOUNDED, BOUNDED_PLANS, C, DENSE, ENDLESS, ROUNDS, VOID, Great, chain_of, chance_book, keys_in, knot,
@@ -174,6 +176,14 @@ class Sizes(Refusing):
                         self.assertIs(is_whole(book, plan), True)
                         self.assertEqual(size_of(plan), size)
 
+    def test_sizes_somewhat_beyond(self):
+        for book in [TWINS, ENDLESS, NO_PLANS[0], chain_of(45)]:
+            for size in [0, 41, 42, 45, 50]:
+                self.assertEqual(many_of(book, size), many_of_signs(book, size, one_key) if size else 0)
+            self.assertEqual(plans_of(book, 0, 1), [])
+        self.assertEqual(len(plans_of(chain_of(45), 45, 1)), 1)
+        self.assertEqual(rows_to(ROUND, 11)[-1], ("b",) * 5 + ("a",) + ("c",) * 5)
+
     def test_lists_are_new_and_nothing_is_changed(self):
         before = repr(TWINS)
         first, second = plans_of(TWINS, 3, 100), plans_of(TWINS, 3, 100)
@@ -313,6 +323,48 @@ class Rows(Refusing):
             told = rows_to(book, 8)
             self.assertEqual(told[0], ("b",))
             self.assertEqual(len(told), 51 if others and others[0][3][-1][0] == "hole" else 1 + len(others))
+
+    def test_few_rows_beside_very_many_by_what_must_be_put(self):
+        # What else must stand in a whole plan leaves room for one sign there.
+        signs = of_signs(50)
+        trees = [knot("T", one, ("hole", "T")) for one in signs] + [knot("T", one) for one in signs]
+        long = [knot("X", *[A] * 6, FOOT), knot("U", *[A] * 6)]
+        for tree in [
+            knot("S", B, knot("X", ("hole", "T"), takes=("M", True))), knot("S", B, ("hole", "T"), ("hole", "U")),
+            knot("S", B, ("hole", "U"), ("hole", "T")), knot("S", B, ("hole", "T"), takes=("M", True)),
+        ]:
+            told = rows_to(numbered(trees + long + [tree]), 8)
+            self.assertEqual(len(told), 50)
+            self.assertEqual(rows_to(numbered(trees + long + [tree]), 7), [])
+            self.check_to(numbered(trees[::10] + long + [tree]), 8)
+
+    def test_few_rows_that_come_in_very_many_ways(self):
+        # More than a thousand ways to part the signs of a row at a foot; the rows are few.
+        book = numbered([knot("S", one, takes=MAY) for one in (A, B)] + [knot("X", one, FOOT, takes=MAY) for one in (A, B)] + [
+            knot("X", FOOT, one, takes=MAY) for one in (A, B)])
+        self.assertEqual(rows_to(book, 8), [
+            row for length in range(1, 9) for row in itertools.product("ab", repeat=length)])
+        deep = numbered([knot("S", one, takes=MAY) for one in (A, B)] + [
+            knot("X", one, knot("Y", FOOT, takes=MAY), two, takes=MAY) for one in (A, B, VOID) for two in (A, B, VOID) if one != two or one != VOID])
+        self.assertEqual(rows_to(deep, 7), [
+            row for length in range(1, 8) for row in itertools.product("ab", repeat=length)])
+
+    def test_refused_just_where_there_are_more(self):
+        refused = 0
+        for seed in range(250):
+            book = chance_book(seed, 1 + seed % 7) if seed % 5 else [SIDES, ROUND, TWINS, DENSE, ENDLESS][seed // 5 % 5]
+            for length in [3, 5]:
+                try:
+                    rows = in_order(rows_and_plans(book, length, 10 ** 4))
+                except Great:
+                    continue
+                for most in {0, 1, 2, len(rows) // 2, len(rows) - 1, len(rows), len(rows) + 1} - {-1}:
+                    if most < len(rows):
+                        self.refused(most, whole_rows, book, length, most)
+                        refused += 1
+                    else:
+                        self.assertEqual(whole_rows(book, length, most), rows)
+        self.assertGreater(refused, 200)
 
     def test_great_books(self):
         began = time.monotonic()
